@@ -1,0 +1,202 @@
+"""What the tests share: drawn values, runs by Python's own fractions, and values of any kind."""
+
+import random
+from fractions import Fraction
+
+from kinkmeasure.ratios import make
+
+# Values of the kinds that point 101 names, none of which is a ratio, a vector or an integer.
+STRANGE = [
+    None, True, False, 1.5, 2.0, float("nan"), float("inf"), 2j, "", "a", "0", "sums", "1/2",
+    [], [1, 2], [(1, 1)], [[(0, 1)]], ([],), ((((),),),), ("sums",), ("bends", 1, 2),
+]
+# The same, with values that are right in some places.
+JUNK = STRANGE + [0, 1, -1, 2, 10**700, -(10**700), (), (1,), (1, 2), (0, 1), (2, 4), (1, 0), (1, -2),
+                  (True, 1), (1, True), (0, 2), (1.0, 1), (1, 2, 3), ((1, 1),), ((1, 2), (0, 1)),
+                  (((1, 1),),), ("bends", (True,)), ("bends", ()), (True,), (False, True)]
+
+
+def ratio(value):
+    """The ratio of an integer or a fraction."""
+    value = Fraction(value)
+    return (value.numerator, value.denominator)
+
+
+def vector(*values):
+    return tuple(ratio(value) for value in values)
+
+
+def matrix(*rows):
+    return tuple(vector(*row) for row in rows)
+
+
+def fraction(pair):
+    return Fraction(pair[0], pair[1])
+
+
+def fractions(pairs):
+    return [fraction(pair) for pair in pairs]
+
+
+def sums(rows, offsets):
+    return ("sums", matrix(*rows), vector(*offsets))
+
+
+def bound(values, limit):
+    return (vector(*values), ratio(limit))
+
+
+class Draw:
+    """Drawn values; the same seed draws the same ones."""
+
+    def __init__(self, seed):
+        self.random = random.Random(seed)
+
+    def integer(self, low, high):
+        return self.random.randint(low, high)
+
+    def chance(self, share):
+        return self.random.random() < share
+
+    def pick(self, values):
+        return self.random.choice(values)
+
+    def ratio(self, most=6, below=4):
+        return make(self.integer(-most, most), self.integer(1, below))
+
+    def long_ratio(self, figures):
+        return make(self.integer(-(10**figures), 10**figures), self.integer(1, 10**figures))
+
+    def vector(self, size, most=6, below=4):
+        return tuple(self.ratio(most, below) for _ in range(size))
+
+    def matrix(self, rows, columns):
+        return tuple(self.vector(columns) for _ in range(rows))
+
+    def group(self, taken):
+        many = self.integer(1, taken)
+        return tuple(sorted(self.random.sample(range(taken), many)))
+
+    def layer(self, kind, taken):
+        if kind == "sums":
+            rows = self.integer(1, 4)
+            return ("sums", self.matrix(rows, taken), self.vector(rows))
+        if kind == "bends":
+            return ("bends", tuple(self.chance(0.6) for _ in range(taken)))
+        if kind == "greatest":
+            return ("greatest", tuple(self.group(taken) for _ in range(self.integer(1, 4))))
+        wide = self.integer(1, taken)
+        return ("window", self.integer(1, 4), self.vector(wide), self.ratio())
+
+    def network(self, size=None, kinds=None):
+        """A network with layers of these kinds, or of up to five drawn ones."""
+        size = self.integer(1, 5) if size is None else size
+        if kinds is None:
+            every = ["sums", "bends", "greatest", "window"]
+            kinds = [self.pick(every) for _ in range(self.integer(0, 5))]
+        taken = size
+        layers = []
+        for kind in kinds:
+            layers.append(self.layer(kind, taken))
+            taken = given_by(layers[-1], taken)
+        return (size, tuple(layers))
+
+    def plain(self, size=None, depth=None):
+        depth = self.integer(0, 2) if depth is None else depth
+        return self.network(size, ["sums"] + ["bends", "sums"] * depth)
+
+    def point(self, size):
+        """A point, in which numbers that are equal or zero are not rare."""
+        if self.chance(0.3):
+            return tuple(self.pick([(0, 1), (1, 1), (-1, 1)]) for _ in range(size))
+        return self.vector(size)
+
+    def system(self, size, many):
+        most = self.pick([1, 2, 6])
+        rows = []
+        for _ in range(many):
+            row = tuple(self.ratio(most, 2) if self.chance(0.7) else (0, 1) for _ in range(size))
+            rows.append((row, self.ratio(self.pick([0, 1, 5]), 3)))
+        if rows and self.chance(0.2):
+            rows = rows + rows
+        return tuple(rows)
+
+
+def given_by(layer, taken):
+    """How many numbers a layer gives that takes so many."""
+    if layer[0] == "bends":
+        return taken
+    if layer[0] == "window":
+        return len(range(0, taken - len(layer[2]) + 1, layer[1]))
+    return len(layer[1])
+
+
+def passed_by(layer, values):
+    """What a layer gives, by Python's own fractions."""
+    if layer[0] == "sums":
+        return [sum((fraction(w) * x for w, x in zip(row, values)), fraction(offset))
+                for row, offset in zip(layer[1], layer[2])]
+    if layer[0] == "bends":
+        return [max(x, Fraction(0)) if flag else x for flag, x in zip(layer[1], values)]
+    if layer[0] == "greatest":
+        return [max(values[index] for index in group) for group in layer[1]]
+    _, step, weights, offset = layer
+    found = []
+    start = 0
+    while start + len(weights) <= len(values):
+        found.append(sum((fraction(w) * values[start + k] for k, w in enumerate(weights)),
+                         fraction(offset)))
+        start += step
+    return found
+
+
+def trail_by(network, point):
+    """The point and what each layer gives, as lists of fractions."""
+    found = [fractions(point)]
+    for layer in network[1]:
+        found.append(passed_by(layer, found[-1]))
+    return found
+
+
+def outputs_by(network, point):
+    return tuple(ratio(value) for value in trail_by(network, point)[-1])
+
+
+def bent_by(network, point):
+    """The numbers that the units of a network bend at a point, in the order of the units."""
+    found = []
+    values = trail_by(network, point)
+    for place, layer in enumerate(network[1]):
+        if layer[0] == "bends":
+            found.extend(x for flag, x in zip(layer[1], values[place]) if flag)
+    return found
+
+
+def unit_count(network):
+    """How many units the flattened network has (point 206)."""
+    many = 0
+    for layer in network[1]:
+        if layer[0] == "bends":
+            many += sum(layer[1])
+        if layer[0] == "greatest":
+            many += sum(len(group) - 1 for group in layer[1])
+    return many
+
+
+def replaced(value, junk):
+    """The value with just one place in it, at any depth, replaced by the junk; each in turn."""
+    yield junk
+    if isinstance(value, tuple):
+        for index, item in enumerate(value):
+            for other in replaced(item, junk):
+                yield value[:index] + (other,) + value[index + 1:]
+
+
+def shortened(value):
+    """The value with just one item at any depth taken away or doubled; each in turn."""
+    if isinstance(value, tuple):
+        for index, item in enumerate(value):
+            yield value[:index] + value[index + 1:]
+            yield value[:index] + (item, item) + value[index + 1:]
+            for other in shortened(item):
+                yield value[:index] + (other,) + value[index + 1:]

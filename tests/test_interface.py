@@ -1,0 +1,63 @@
+"""The names and arguments that the document's interface lists, each in its own file."""
+
+import importlib
+import inspect
+import unittest
+
+FUNCTIONS = {
+    "ratios": """is_integer(value) is_ratio(value) make(above, below=1) of(integer) add(one, other)
+        subtract(one, other) multiply(one, other) divide(one, other) negative(ratio) absolute(ratio)
+        compare(one, other) less(one, other) at_most(one, other) least(ratios) greatest(ratios) total(ratios)
+        floor(ratio) ceiling(ratio) nearest(ratio) text(ratio) parse(word)""",
+    "vectors": """is_vector(value, *, size=None) is_matrix(value, *, rows=None, columns=None) zero(size)
+        unit(size, index) identity(size) dot(one, other) added(one, other) subtracted(one, other)
+        scaled(factor, vector) opposite(vector) applied(matrix, vector) combined(vector, matrix)
+        multiplied(one, other) column(matrix, index) transposed(matrix) cleared(vector) is_below(one, other)""",
+    "networks": """check(network) check_plain(network) sizes(network) out_size(network) passed(layer, vector)
+        trail(network, point) run(network, point) is_plain(network) unit_places(network) units(network)""",
+    "flatten": "flatten(network)",
+    "joining": """affine(matrix, offsets) select(size, indexes) behind(one, other) beside(one, other)
+        along(one, other) difference(one, other)""",
+    "texts": "text_of(network) parse(written)",
+    "systems": """is_bound(value, *, size=None) check_system(size, rows) are_multipliers(value, *, count)
+        summed(size, rows, multipliers) check_none(size, rows, multipliers)
+        check_limit(size, rows, bound, multipliers)""",
+    "simplex": "solve(size, rows) greatest(size, rows, vector)",
+    "regions": """is_region(size, value) check_region(size, region) rows_of(region) keeps(bound, vector)
+        contains(region, point) point_of(region)""",
+}
+CLASSES = {
+    "KinkError": None, "ByZero": "", "BadRatio": "", "BadPoint": "", "BadJoin": "", "BadNetwork": "layer, reason",
+    "BadSystem": "", "BadRegion": "", "BadClaim": "", "BadPaper": "", "BadVector": "", "BadScale": "",
+    "BadText": "row", "BadJob": "row", "BadStep": "place", "BadCode": "place", "BadLoop": "reason",
+    "BadCount": "", "BadMeasure": "",
+}
+
+
+class InterfaceTest(unittest.TestCase):
+    def test_functions(self):
+        for name, listed in FUNCTIONS.items():
+            module = importlib.import_module("kinkmeasure." + name)
+            for entry in listed.replace(")", ")\n").splitlines():
+                word, _, arguments = entry.strip().partition("(")
+                if word == "":
+                    continue
+                function = getattr(module, word)
+                self.assertTrue(inspect.isfunction(function), (name, word))
+                self.assertEqual(function.__module__, module.__name__, word)
+                self.assertEqual(str(inspect.signature(function)), "(" + " ".join(arguments.split()), word)
+
+    def test_classes(self):
+        module = importlib.import_module("kinkmeasure.errors")
+        for name, arguments in CLASSES.items():
+            error = getattr(module, name)
+            self.assertTrue(inspect.isclass(error))
+            self.assertEqual(error.__module__, module.__name__)
+            if arguments:
+                self.assertEqual(str(inspect.signature(error)), f"({arguments})", name)
+            elif arguments == "":
+                error()
+
+
+if __name__ == "__main__":
+    unittest.main()
