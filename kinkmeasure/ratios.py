@@ -160,9 +160,9 @@ def text(ratio):
     return f"{above}/{below}"
 
 
-def figures_in(word):
-    """Return the integer that a word of digits writes, or None if it does not."""
-    if len(word) > MOST_FIGURES or not word.isascii() or not word.isdigit():
+def figures_in(word, most):
+    """Return the integer that a word of at most so many digits writes, or None if it does not."""
+    if len(word) > most or not word.isascii() or not word.isdigit():
         return None
     if word.startswith("0") and word != "0":
         return None
@@ -174,14 +174,14 @@ def ratio_in(word):
     if not isinstance(word, str):
         return None
     before, slash, behind = word.partition("/")
-    above = figures_in(before.removeprefix("-"))
+    above = figures_in(before.removeprefix("-"), MOST_FIGURES)
     if above is None or before == "-0":
         return None
     if before.startswith("-"):
         above = -above
     if slash == "":
         return (above, 1)
-    below = figures_in(behind)
+    below = figures_in(behind, MOST_FIGURES)
     if below is None or below < 2 or gcd(above, below) > 1:
         return None
     return (above, below)

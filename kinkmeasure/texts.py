@@ -2,7 +2,7 @@
 
 from kinkmeasure.errors import BadText
 from kinkmeasure.networks import check
-from kinkmeasure.ratios import ratio_in, text
+from kinkmeasure.ratios import figures_in, ratio_in, text
 
 # The greatest number of digits of an integer that is no part of a ratio (point 208).
 MOST_DIGITS = 9
@@ -45,11 +45,7 @@ def text_of(network):
 
 def integer_in(word):
     """Return the integer from 0 on that a word writes, or None if it does not."""
-    if len(word) > MOST_DIGITS or not word.isascii() or not word.isdigit():
-        return None
-    if word.startswith("0") and word != "0":
-        return None
-    return int(word)
+    return figures_in(word, MOST_DIGITS)
 
 
 def weights_in(words):
