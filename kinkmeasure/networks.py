@@ -148,15 +148,20 @@ def passed(layer, vector):
     return slid(layer[1], layer[2], layer[3], vector)
 
 
+def followed(layers, vector):
+    """Return a vector and what each layer gives behind it, in order."""
+    found = [vector]
+    for layer in layers:
+        found.append(passed(layer, found[-1]))
+    return tuple(found)
+
+
 def trail(network, point):
     """Return the point and what each layer gives there, in order; raise BadPoint for no point."""
     check(network)
     if not is_vector(point, size=network[0]):
         raise BadPoint()
-    found = [point]
-    for layer in network[1]:
-        found.append(passed(layer, found[-1]))
-    return tuple(found)
+    return followed(network[1], point)
 
 
 def run(network, point):

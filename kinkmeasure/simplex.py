@@ -6,9 +6,8 @@ from kinkmeasure.tables import Table
 from kinkmeasure.vectors import is_vector
 
 
-def solve(size, rows):
-    """Return a point that keeps all bounds, or multipliers that show that there is none."""
-    check_system(size, rows)
+def solved(size, rows):
+    """Do what `solve` does for rows that surely are a system."""
     table = Table(size, rows)
     lacking = table.find_place()
     if lacking is not None:
@@ -16,11 +15,8 @@ def solve(size, rows):
     return ("point", table.point())
 
 
-def greatest(size, rows, vector):
-    """Return where a form is greatest, or why it is nowhere (point 304)."""
-    check_system(size, rows)
-    if not is_vector(vector, size=size):
-        raise BadSystem()
+def topped(size, rows, vector):
+    """Do what `greatest` does for rows and a vector that surely fit."""
     table = Table(size, rows)
     table.take_aim(vector)
     lacking = table.find_place()
@@ -30,3 +26,17 @@ def greatest(size, rows, vector):
     if column is not None:
         return ("endless", table.point(), table.direction(column, len(rows)))
     return ("greatest", table.point(), table.multipliers(len(rows)))
+
+
+def solve(size, rows):
+    """Return a point that keeps all bounds, or multipliers that show that there is none."""
+    check_system(size, rows)
+    return solved(size, rows)
+
+
+def greatest(size, rows, vector):
+    """Return where a form is greatest, or why it is nowhere (point 304)."""
+    check_system(size, rows)
+    if not is_vector(vector, size=size):
+        raise BadSystem()
+    return topped(size, rows, vector)

@@ -122,6 +122,30 @@ class Draw:
         return tuple(rows)
 
 
+    def region(self, size, many=None):
+        """A region, which is seldom turned over or empty, and sometimes flat."""
+        lows = self.vector(size)
+        least = -1 if self.chance(0.1) else 0
+        highs = tuple((a + self.integer(least, 5) * b, b) for (a, b) in lows)
+        return (lows, highs, self.system(size, self.integer(0, 2) if many is None else many))
+
+    def claim(self, size):
+        return tuple(self.system(size, self.integer(0, 3)) for _ in range(self.integer(0, 3)))
+
+    def phases(self, count):
+        return tuple(self.pick((True, False, None)) for _ in range(count))
+
+    def deep(self, size, widths, outputs=1):
+        """A plain network with so many units in each layer of bends."""
+        layers = []
+        taken = size
+        for width in widths:
+            layers.extend([("sums", self.matrix(width, taken), self.vector(width)), ("bends", (True,) * width)])
+            taken = width
+        layers.append(("sums", self.matrix(outputs, taken), self.vector(outputs)))
+        return (size, tuple(layers))
+
+
 def given_by(layer, taken):
     """How many numbers a layer gives that takes so many."""
     if layer[0] == "bends":
@@ -190,6 +214,24 @@ def replaced(value, junk):
         for index, item in enumerate(value):
             for other in replaced(item, junk):
                 yield value[:index] + (other,) + value[index + 1:]
+
+
+def keeps_by(bounds, point):
+    """Whether a point keeps all bounds, by Python's own fractions."""
+    return all(sum(w * x for w, x in zip(fractions(line), fractions(point))) <= fraction(limit)
+               for line, limit in bounds)
+
+
+def lies_in(region, point):
+    """Whether a point lies in a region, by Python's own fractions."""
+    lows, highs, bounds = region
+    boxed = all(low <= x <= high for low, x, high in zip(fractions(lows), fractions(point), fractions(highs)))
+    return boxed and keeps_by(bounds, point)
+
+
+def holds_by(claim, outputs):
+    """Whether a claim holds for outputs, by Python's own fractions."""
+    return all(any(keeps_by([row], outputs) for row in clause) for clause in claim)
 
 
 def shortened(value):

@@ -25,6 +25,15 @@ FUNCTIONS = {
     "simplex": "solve(size, rows) greatest(size, rows, vector)",
     "regions": """is_region(size, value) check_region(size, region) rows_of(region) keeps(bound, vector)
         contains(region, point) point_of(region)""",
+    "claims": """is_clause(size, value) check_clause(size, clause) check_claim(size, claim)
+        clause_holds(clause, outputs) claim_holds(claim, outputs) first_place(size, index) within(lows, highs)""",
+    "ranges": """value_ranges(network, region, phases) unit_ranges(network, region, phases)
+        output_ranges(network, region, phases)""",
+    "leaves": """leaf_rows(network, region, phases) goal_rows(network, count, clause)
+        is_leaf_right(network, region, phases, clause, multipliers, shares)""",
+    "judge": "judge_case(network, region, clause, paper) judge(network, region, claim, papers)",
+    "search": "decide(network, region, claim)",
+    "pieces": "pattern(network, point) piece_rows(network, region, phases) piece_form(network, phases)",
 }
 CLASSES = {
     "KinkError": None, "ByZero": "", "BadRatio": "", "BadPoint": "", "BadJoin": "", "BadNetwork": "layer, reason",

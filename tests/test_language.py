@@ -152,6 +152,25 @@ class LanguageTest(unittest.TestCase):
             elif isinstance(node, ast.Attribute) and node.attr not in METHODS | own:
                 self.assertIn(node.attr, stored, (name, node.lineno))
 
+    def test_attributes(self):
+        barred = set("""items keys values pop update append clear extend insert remove reverse setdefault sort args
+            encode decode hex fromhex format""".split())
+        for name, node in self.nodes:
+            if isinstance(node, ast.ClassDef):
+                methods = {part.name for part in node.body if isinstance(part, ast.FunctionDef)}
+                stored = {part.attr for part in ast.walk(node)
+                          if isinstance(part, ast.Attribute) and isinstance(part.ctx, ast.Store)}
+                self.assertFalse(stored & barred, (name, node.name))
+                self.assertFalse(stored & methods, (name, node.name))
+
+    def test_generator_expressions(self):
+        for name, tree in self.trees.items():
+            direct = {id(node.args[0]) for node in ast.walk(tree) if isinstance(node, ast.Call) and node.args
+                      and isinstance(node.func, ast.Name) and node.func.id in ("all", "any")}
+            for node in ast.walk(tree):
+                if isinstance(node, ast.GeneratorExp):
+                    self.assertIn(id(node), direct, (name, node.lineno))
+
     def test_iterated_at_once(self):
         views = {"zip", "enumerate", "reversed"}
         for name, tree in self.trees.items():

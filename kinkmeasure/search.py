@@ -1,0 +1,194 @@
+"""The search for a point that breaks a claim, or for papers that it holds (point 503)."""
+
+from kinkmeasure.claims import check_claim, clause_holds
+from kinkmeasure.flatten import flatten
+from kinkmeasure.leaves import Ground, goals_with, narrowed, rows_with, unit_bounds, widened_rows
+from kinkmeasure.judge import with_phase
+from kinkmeasure.networks import followed, out_size
+from kinkmeasure.pieces import unit_values
+from kinkmeasure.ratios import ONE, ZERO, absolute, add, greatest, less, negative, subtract
+from kinkmeasure.regions import check_region
+from kinkmeasure.simplex import solved, topped
+from kinkmeasure.systems import summed
+from kinkmeasure.vectors import dot, mixed, opposite, scaled, subtracted, unit, zero
+
+
+def fate_of(phase, low, high):
+    """Return True if a unit surely gives its value, False if it surely gives 0, otherwise None."""
+    if phase is not None:
+        return phase
+    if low[0] >= 0:
+        return True
+    return False if high[0] <= 0 else None
+
+
+def value_at(form, point):
+    """Return the value of a form at a point."""
+    return add(form[0], dot(form[1:], point))
+
+
+class Relaxation:
+    """The bounds of a leaf over the inputs and those units alone that are really open.
+
+    What other units give is put in, so the system is small. Each bound has the place of the bound
+    of the leaf that it comes from.
+    """
+
+    def __init__(self, ground, phases):
+        self.ground = ground
+        self.phases = phases
+        self.ranges = ground.ranges_for(phases)
+        self.fates = tuple([fate_of(phase, low, high) for phase, (low, high) in zip(phases, self.ranges)])
+        self.forms, self.parts = narrowed(ground.unit_forms, ground.size, self.fates)
+        self.free = [index for index, fate in enumerate(self.fates) if fate is None]
+        self.size = ground.size + len(self.free)
+        self.rows = widened_rows(ground.region, len(self.free))
+        self.origins = list(range(len(self.rows)))
+        self.append_units()
+
+    def append_units(self):
+        """Append the bounds of the open units, and those that the phases of the others ask for."""
+        base = len(self.rows)
+        ahead = 1 + self.ground.size
+        for index, value in enumerate(self.forms):
+            first = base + 3 * index
+            low, high = self.ranges[index]
+            if self.fates[index] is None:
+                self.rows.extend(unit_bounds(None, unit(1 + self.size, ahead), value, low, high))
+                self.origins.extend([first, first + 1, first + 2])
+                ahead += 1
+            elif self.phases[index] is not None:
+                self.rows.append(unit_bounds(self.phases[index], value, value, low, high)[2])
+                self.origins.append(first + 2)
+
+    def form(self, goal):
+        """Return the form that says how far a goal is missed, over the variables of the system."""
+        vector, limit = goal
+        return mixed((negative(limit),) + vector, self.parts, 1 + self.size)
+
+    def widest(self, point):
+        """Return the open unit for which most lies between the variable and what the unit gives."""
+        found = None
+        most = ZERO
+        for place, index in enumerate(self.free):
+            value = value_at(self.forms[index], point)
+            gap = subtract(point[self.ground.size + place], greatest((ZERO, value)))
+            if found is None or less(most, gap):
+                found = index
+                most = gap
+        return found
+
+    def paired(self, index):
+        """Return the places of the bounds of a settled unit that its variable is at most, and at least."""
+        first = 2 * self.ground.size + len(self.ground.region[2]) + 3 * index
+        if self.phases[index] is not None:
+            return first, first + 1
+        return (first + 2, first + 1) if self.fates[index] else (first + 2, first)
+
+    def leaf(self, multipliers, goals, shares):
+        """Return the leaf with these multipliers, and those that the settled units need for it."""
+        rows = rows_with(self.ground.unit_forms, self.ground.region, self.phases, self.ranges)
+        every = [ZERO] * len(rows)
+        for place, ratio in zip(self.origins, multipliers):
+            every[place] = ratio
+        wide = self.ground.size + self.ground.count
+        left = subtracted(summed(wide, goals, shares)[0], summed(wide, rows, every)[0])
+        # A unit takes part in the values of later ones alone, so the last one is put right first.
+        for index in range(self.ground.count - 1, -1, -1):
+            item = left[self.ground.size + index]
+            if self.fates[index] is not None and item != ZERO:
+                most, least = self.paired(index)
+                place = most if item[0] > 0 else least
+                every[place] = absolute(item)
+                left = subtracted(left, scaled(absolute(item), rows[place][0]))
+        return ("leaf", tuple(every), shares)
+
+    def best(self, goals):
+        """Return where all goals are missed as far as possible (point 304), and by how much.
+
+        Several goals have one variable more, which is at most what each of them is missed by; the
+        multipliers of these bounds are the shares.
+        """
+        forms = [self.form(goal) for goal in goals]
+        if forms == []:
+            return solved(self.size, self.rows), ONE
+        if len(forms) == 1:
+            answer = topped(self.size, self.rows, forms[0][1:])
+            return answer, value_at(forms[0], answer[1]) if answer[0] == "greatest" else ZERO
+        rows = [(vector + (ZERO,), limit) for vector, limit in self.rows]
+        rows.extend([(opposite(form[1:]) + (ONE,), form[0]) for form in forms])
+        answer = topped(self.size + 1, rows, unit(self.size + 1, self.size))
+        return answer, answer[1][-1] if answer[0] == "greatest" else ZERO
+
+    def answer(self, goals):
+        """Return the right leaf that there is, or ("point", point) with a point that misses all goals."""
+        found, miss = self.best(goals)
+        many = len(self.rows)
+        if found[0] == "none":
+            return self.leaf(found[1][:many], goals, zero(len(goals)))
+        if less(ZERO, miss):
+            return ("point", found[1])
+        shares = (ONE,) if len(goals) == 1 else found[2][many:]
+        return self.leaf(found[2][:many], goals, shares)
+
+
+class Proof:
+    """A case paper in the making."""
+
+    def __init__(self, ground, clause):
+        self.ground = ground
+        self.clause = clause
+        self.goals = goals_with(ground.out_forms, clause)
+        self.phases = (None,) * ground.count
+        self.cases = []
+        self.paper = None
+
+    def close(self, paper):
+        """Take the paper of the present phases; go on with the next case, or end."""
+        while self.cases != [] and self.cases[-1][2] is not None:
+            index, first, ahead, _ = self.cases.pop()
+            paper = ("unit", index, ahead, paper) if first else ("unit", index, paper, ahead)
+        if self.cases == []:
+            self.paper = paper
+            return
+        index, first, _, phases = self.cases.pop()
+        self.cases.append((index, first, paper, phases))
+        self.phases = with_phase(phases, index, not first)
+
+    def part(self, index, first):
+        """Go on with the cases of a unit, beginning with one of them."""
+        self.cases.append((index, first, None, self.phases))
+        self.phases = with_phase(self.phases, index, first)
+
+    def go_on(self):
+        """Search up to a point that breaks the clause, which is returned, or the paper: then None."""
+        while self.paper is None:
+            relaxation = Relaxation(self.ground, self.phases)
+            found = relaxation.answer(self.goals)
+            if found[0] == "leaf":
+                self.close(found)
+                continue
+            point = found[1][: self.ground.size]
+            passing = followed(self.ground.network[1], point)
+            if not clause_holds(self.clause, passing[-1]):
+                return point
+            index = relaxation.widest(found[1])
+            values = unit_values(self.ground.network[1], passing)
+            self.part(index, values[index][0] > 0)
+        return None
+
+
+def decide(network, region, claim):
+    """Return a point of the region that breaks the claim, or papers that it holds."""
+    plain = flatten(network)
+    check_region(network[0], region)
+    check_claim(out_size(plain), claim)
+    ground = Ground(plain, region)
+    papers = []
+    for clause in claim:
+        proof = Proof(ground, clause)
+        point = proof.go_on()
+        if point is not None:
+            return ("breaks", point)
+        papers.append(proof.paper)
+    return ("holds", tuple(papers))
