@@ -2,8 +2,8 @@
 
 from kinkmeasure.claims import check_claim, clause_holds
 from kinkmeasure.flatten import flatten
-from kinkmeasure.leaves import Ground, goals_with, narrowed, rows_with, unit_bounds, widened_rows
 from kinkmeasure.judge import with_phase
+from kinkmeasure.leaves import Ground, goals_with, narrowed, rows_with, unit_bounds, widened_rows
 from kinkmeasure.networks import followed, out_size
 from kinkmeasure.pieces import unit_values
 from kinkmeasure.ratios import ONE, ZERO, absolute, add, greatest, less, negative, subtract
@@ -137,11 +137,15 @@ class Proof:
 
     def __init__(self, ground, clause):
         self.ground = ground
-        self.clause = clause
-        self.goals = goals_with(ground.out_forms, clause)
         self.phases = (None,) * ground.count
         self.cases = []
         self.paper = None
+        self.aim(clause)
+
+    def aim(self, clause):
+        """Take a clause to be shown; leaves that are right for one with less limits stay right."""
+        self.clause = clause
+        self.goals = goals_with(self.ground.out_forms, clause)
 
     def close(self, paper):
         """Take the paper of the present phases; go on with the next case, or end."""

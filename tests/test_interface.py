@@ -33,6 +33,14 @@ FUNCTIONS = {
         is_leaf_right(network, region, phases, clause, multipliers, shares)""",
     "judge": "judge_case(network, region, clause, paper) judge(network, region, claim, papers)",
     "search": "decide(network, region, claim)",
+    "alike": "alike(one, other, region) judge_alike(one, other, region, papers)",
+    "smaller": """value_network(network, k) value_difference(network, k, j) step_made(network, step)
+        shorten(network, region) judge_steps(network, region, steps)""",
+    "greatest": """greatest(network, region, vector) least(network, region, vector)
+        judge_greatest(network, region, vector, answer) judge_least(network, region, vector, answer)""",
+    "distance": "distance(one, other, region) judge_distance(one, other, region, answer)",
+    "steady": """reach(centre, point) within_radius(region, centre, radius) steady(network, region, centre, claim)
+        judge_steady(network, region, centre, claim, answer)""",
     "pieces": "pattern(network, point) piece_rows(network, region, phases) piece_form(network, phases)",
 }
 CLASSES = {
