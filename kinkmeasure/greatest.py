@@ -24,7 +24,7 @@ def highest_near(network, region, vector, point):
     """Return the value and the point where the form is greatest on the piece of a point."""
     phases = pattern(network, point)
     matrix, _ = piece_form(network, phases)
-    found = topped(network[0], piece_rows(network, region, phases), combined(vector, matrix))
+    found = topped(network[0], piece_rows(network, region, phases), combined(vector, matrix), ())
     return dot(vector, run(network, found[1])), found[1]
 
 

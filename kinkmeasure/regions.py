@@ -4,7 +4,7 @@ from kinkmeasure.errors import BadRegion
 from kinkmeasure.ratios import at_most, negative
 from kinkmeasure.simplex import solve
 from kinkmeasure.systems import is_bound
-from kinkmeasure.vectors import dot, is_vector, opposite, unit
+from kinkmeasure.vectors import dot, is_below, is_vector, opposite, unit
 
 
 def is_region(size, value):
@@ -41,7 +41,10 @@ def keeps(bound, vector):
 
 def contains(region, point):
     """Tell whether a point lies in a region."""
-    return all(keeps(bound, point) for bound in rows_of(region))
+    lows, highs, bounds = region
+    if not is_below(lows, point) or not is_below(point, highs):
+        return False
+    return all(keeps(bound, point) for bound in bounds)
 
 
 def point_of(region):

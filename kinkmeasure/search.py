@@ -73,7 +73,7 @@ class Relaxation:
         for place, index in enumerate(self.free):
             value = value_at(self.forms[index], point)
             gap = subtract(point[self.ground.size + place], greatest((ZERO, value)))
-            if found is None or less(most, gap):
+            if less(most, gap):
                 found = index
                 most = gap
         return found
@@ -94,50 +94,66 @@ class Relaxation:
         wide = self.ground.size + self.ground.count
         left = subtracted(summed(wide, goals, shares)[0], summed(wide, rows, every)[0])
         # A unit takes part in the values of later ones alone, so the last one is put right first.
+        # Of open units nothing is left, since the small system has their variables, too.
         for index in range(self.ground.count - 1, -1, -1):
             item = left[self.ground.size + index]
-            if self.fates[index] is not None and item != ZERO:
+            if item != ZERO:
                 most, least = self.paired(index)
                 place = most if item[0] > 0 else least
                 every[place] = absolute(item)
                 left = subtracted(left, scaled(absolute(item), rows[place][0]))
         return ("leaf", tuple(every), shares)
 
-    def best(self, goals):
+    def best(self, goals, tight):
         """Return where all goals are missed as far as possible (point 304), and by how much.
 
         Several goals have one variable more, which is at most what each of them is missed by; the
         multipliers of these bounds are the shares.
         """
         forms = [self.form(goal) for goal in goals]
+        hints = [place for place, origin in enumerate(self.origins) if origin in tight]
         if forms == []:
-            return solved(self.size, self.rows), ONE
+            return solved(self.size, self.rows, hints), ONE
         if len(forms) == 1:
-            answer = topped(self.size, self.rows, forms[0][1:])
+            answer = topped(self.size, self.rows, forms[0][1:], hints)
             return answer, value_at(forms[0], answer[1]) if answer[0] == "greatest" else ZERO
         rows = [(vector + (ZERO,), limit) for vector, limit in self.rows]
         rows.extend([(opposite(form[1:]) + (ONE,), form[0]) for form in forms])
-        answer = topped(self.size + 1, rows, unit(self.size + 1, self.size))
+        answer = topped(self.size + 1, rows, unit(self.size + 1, self.size), hints)
         return answer, answer[1][-1] if answer[0] == "greatest" else ZERO
 
-    def answer(self, goals):
-        """Return the right leaf that there is, or ("point", point) with a point that misses all goals."""
-        found, miss = self.best(goals)
+    def reached(self, found):
+        """Return those bounds of the leaf, by their places, that matter where all goals are missed most."""
+        if found[0] == "point":
+            return []
+        return [origin for origin, ratio in zip(self.origins, found[2]) if ratio != ZERO]
+
+    def answer(self, goals, tight):
+        """Return the right leaf, or ("point", point, tight) with a point that misses all goals.
+
+        The search begins where the bounds of the leaf meet that are called tight.
+        """
+        found, miss = self.best(goals, tight)
         many = len(self.rows)
         if found[0] == "none":
             return self.leaf(found[1][:many], goals, zero(len(goals)))
         if less(ZERO, miss):
-            return ("point", found[1])
+            return ("point", found[1], self.reached(found))
         shares = (ONE,) if len(goals) == 1 else found[2][many:]
         return self.leaf(found[2][:many], goals, shares)
 
 
 class Proof:
-    """A case paper in the making."""
+    """A case paper in the making.
+
+    Each case that is begun is a list: the number of the unit, the phase that comes first, the phases
+    and the tight bounds ahead of the case, and the paper for the first phase, as soon as there is one.
+    """
 
     def __init__(self, ground, clause):
         self.ground = ground
         self.phases = (None,) * ground.count
+        self.tight = []
         self.cases = []
         self.paper = None
         self.aim(clause)
@@ -147,38 +163,41 @@ class Proof:
         self.clause = clause
         self.goals = goals_with(self.ground.out_forms, clause)
 
+    def part(self, index, first, tight):
+        """Begin the cases of a unit with one of its phases."""
+        self.cases.append([index, first, self.phases, tight, None])
+        self.phases = with_phase(self.phases, index, first)
+        self.tight = tight
+
     def close(self, paper):
         """Take the paper of the present phases; go on with the next case, or end."""
-        while self.cases != [] and self.cases[-1][2] is not None:
-            index, first, ahead, _ = self.cases.pop()
+        while self.cases != [] and self.cases[-1][4] is not None:
+            index, first, _, _, ahead = self.cases.pop()
             paper = ("unit", index, ahead, paper) if first else ("unit", index, paper, ahead)
         if self.cases == []:
             self.paper = paper
             return
-        index, first, _, phases = self.cases.pop()
-        self.cases.append((index, first, paper, phases))
+        self.cases[-1][4] = paper
+        index, first, phases, tight, _ = self.cases[-1]
         self.phases = with_phase(phases, index, not first)
-
-    def part(self, index, first):
-        """Go on with the cases of a unit, beginning with one of them."""
-        self.cases.append((index, first, None, self.phases))
-        self.phases = with_phase(self.phases, index, first)
+        self.tight = tight
 
     def go_on(self):
         """Search up to a point that breaks the clause, which is returned, or the paper: then None."""
+        layers = self.ground.network[1]
         while self.paper is None:
             relaxation = Relaxation(self.ground, self.phases)
-            found = relaxation.answer(self.goals)
+            found = relaxation.answer(self.goals, self.tight)
             if found[0] == "leaf":
                 self.close(found)
                 continue
             point = found[1][: self.ground.size]
-            passing = followed(self.ground.network[1], point)
+            passing = followed(layers, point)
             if not clause_holds(self.clause, passing[-1]):
                 return point
             index = relaxation.widest(found[1])
-            values = unit_values(self.ground.network[1], passing)
-            self.part(index, values[index][0] > 0)
+            # Where the network goes at the point, a point that breaks the clause is most likely near.
+            self.part(index, unit_values(layers, passing)[index][0] > 0, found[2])
         return None
 
 

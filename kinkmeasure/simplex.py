@@ -6,19 +6,21 @@ from kinkmeasure.tables import Table
 from kinkmeasure.vectors import is_vector
 
 
-def solved(size, rows):
+def solved(size, rows, hints):
     """Do what `solve` does for rows that surely are a system."""
     table = Table(size, rows)
+    table.settle_at(hints)
     lacking = table.find_place()
     if lacking is not None:
         return ("none", table.multipliers(lacking))
     return ("point", table.point())
 
 
-def topped(size, rows, vector):
+def topped(size, rows, vector, hints):
     """Do what `greatest` does for rows and a vector that surely fit."""
     table = Table(size, rows)
     table.take_aim(vector)
+    table.settle_at(hints)
     lacking = table.find_place()
     if lacking is not None:
         return ("none", table.multipliers(lacking))
@@ -31,7 +33,7 @@ def topped(size, rows, vector):
 def solve(size, rows):
     """Return a point that keeps all bounds, or multipliers that show that there is none."""
     check_system(size, rows)
-    return solved(size, rows)
+    return solved(size, rows, ())
 
 
 def greatest(size, rows, vector):
@@ -39,4 +41,4 @@ def greatest(size, rows, vector):
     check_system(size, rows)
     if not is_vector(vector, size=size):
         raise BadSystem()
-    return topped(size, rows, vector)
+    return topped(size, rows, vector, ())

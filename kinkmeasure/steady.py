@@ -62,7 +62,7 @@ def nearest_on_piece(network, region, centre, phases, clause):
     size = network[0]
     rows = list(piece_rows(network, region, phases)) + missed_rows(network, phases, clause)
     wide = [(vector + (ZERO,), limit) for vector, limit in rows]
-    found = topped(size + 1, wide + reach_rows(centre), zero(size) + (negative(ONE),))
+    found = topped(size + 1, wide + reach_rows(centre), zero(size) + (negative(ONE),), ())
     return found[1][:size]
 
 

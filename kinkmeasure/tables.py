@@ -18,9 +18,14 @@ AIM = -1
 # So many exchanges in a row may leave the place as it is, until the careful choice begins.
 PATIENCE = 10
 
+# A row whose below has at most so many bits is not worth the search for a common factor.
+SHORT = 200
+
 
 def reduced(row, below):
-    """Return a row and its below without the factor that all of them share."""
+    """Return a row and its below, without the factor that all of them share if they are long."""
+    if below.bit_length() <= SHORT:
+        return row, below
     shared = below
     for item in row:
         if shared == 1:
@@ -96,9 +101,18 @@ class Table:
         """Tell whether a label is that of a slack."""
         return label >= self.size
 
+    def settle_at(self, places):
+        """Bring variables of the system into these rows, as far as the slacks of the rows depend on them."""
+        for place in places:
+            column = self.free_column(place)
+            if column is not None and self.is_slack(self.inner[place]):
+                self.exchange(place, column)
+
     def settle(self):
         """Bring the variables of the system into rows, as far as slacks depend on them."""
         for column in range(self.size):
+            if self.is_slack(self.outer[column]):
+                continue
             for place in range(len(self.rows)):
                 if self.is_slack(self.inner[place]) and self.rows[place][column] != 0:
                     self.exchange(place, column)

@@ -216,6 +216,26 @@ def replaced(value, junk):
                 yield value[:index] + (other,) + value[index + 1:]
 
 
+def mixed_up(network, draw):
+    """A plain network that gives the same, with its units in another order and on other scales."""
+    size, layers = network
+    layers = list(layers)
+    for at in range(1, len(layers), 2):
+        (_, ahead, offsets), (_, flags), (_, later, last) = layers[at - 1:at + 2]
+        order = list(range(len(flags)))
+        draw.random.shuffle(order)
+        scales = [Fraction(draw.integer(1, 4), draw.integer(1, 3)) for _ in order]
+
+        def times(items, share):
+            return tuple(ratio(Fraction(*item) * share) for item in items)
+
+        layers[at - 1] = ("sums", tuple(times(ahead[k], scales[k]) for k in order),
+                          tuple(times([offsets[k]], scales[k])[0] for k in order))
+        layers[at] = ("bends", tuple(flags[k] for k in order))
+        layers[at + 1] = ("sums", tuple(tuple(times([row[k]], 1 / scales[k])[0] for k in order) for row in later), last)
+    return (size, tuple(layers))
+
+
 def keeps_by(bounds, point):
     """Whether a point keeps all bounds, by Python's own fractions."""
     return all(sum(w * x for w, x in zip(fractions(line), fractions(point))) <= fraction(limit)

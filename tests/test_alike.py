@@ -4,7 +4,7 @@ import copy
 import unittest
 from fractions import Fraction
 
-from helpers import JUNK, STRANGE, Draw, bound, lies_in, outputs_by, ratio, sums, vector
+from helpers import JUNK, STRANGE, Draw, bound, lies_in, mixed_up, outputs_by, ratio, sums, vector
 from kinkmeasure.alike import alike, judge_alike
 from kinkmeasure.errors import BadJoin, BadNetwork, BadRegion
 from kinkmeasure.flatten import flatten
@@ -20,26 +20,6 @@ POSITIVE = (1, (("bends", (True,)),))
 TWO = (2, (("greatest", ((0, 1),)),))
 UP = (vector(0), vector(3), ())
 SMALL = Fraction(1, 10**12)
-
-
-def mixed_up(network, draw):
-    """A plain network that gives the same, with its units in another order and on other scales."""
-    size, layers = network
-    layers = list(layers)
-    for at in range(1, len(layers), 2):
-        (_, ahead, offsets), (_, flags), (_, later, last) = layers[at - 1:at + 2]
-        order = list(range(len(flags)))
-        draw.random.shuffle(order)
-        scales = [Fraction(draw.integer(1, 4), draw.integer(1, 3)) for _ in order]
-
-        def times(items, share):
-            return tuple(ratio(Fraction(*item) * share) for item in items)
-
-        layers[at - 1] = ("sums", tuple(times(ahead[k], scales[k]) for k in order),
-                          tuple(times([offsets[k]], scales[k])[0] for k in order))
-        layers[at] = ("bends", tuple(flags[k] for k in order))
-        layers[at + 1] = ("sums", tuple(tuple(times([row[k]], 1 / scales[k])[0] for k in order) for row in later), last)
-    return (size, tuple(layers))
 
 
 class AlikeTest(unittest.TestCase):

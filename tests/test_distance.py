@@ -128,6 +128,8 @@ class JudgeTest(unittest.TestCase):
         self.assert_judged(False, self.answer, region=narrow)
         wide = (vector(-3), vector(3), ())
         self.assert_judged(False, self.answer, region=wide)
+        # At 6 the outputs differ by 3, too, but 6 is not in the region.
+        self.assert_judged(False, self.answer[:2] + (vector(6),) + self.answer[3:])
 
     def test_empty(self):
         paper = distance(ABSOLUTE, self.OTHER, EMPTY)[1]

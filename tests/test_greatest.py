@@ -112,6 +112,16 @@ class ValueTest(unittest.TestCase):
             self.assert_values(network, region, vector(1, -1))
 
 
+    def test_units_that_count_both_ways(self):
+        # Here it matters for both cases of a unit what is known of its value then.
+        for seed in (27, 112, 246, 282, 309, 390):
+            draw = Draw(seed)
+            widths = draw.pick([[3, 3], [2, 2, 2], [4, 2], [2, 3, 2], [3, 1, 2]])
+            size = draw.integer(1, 2)
+            network = draw.deep(size, widths)
+            self.assert_values(network, (vector(*[-3] * size), vector(*[3] * size), ()), vector(1))
+
+
 class JudgeTest(unittest.TestCase):
     LINE = vector(1, 0)
 

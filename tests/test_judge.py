@@ -38,6 +38,21 @@ class CaseTest(unittest.TestCase):
         self.assert_case(True, PAPER)
         self.assert_case(True, DEEP)
 
+    def test_the_second_unit_first(self):
+        # With unit 1 at False its third bound is x - 1 <= 0; unit 0 at False has the output 0 - q <= 0.
+        none = ("leaf", vector(0, 0, 1, 0, 0, 1, 0, 0), SHARES)
+        zero = ("leaf", vector(0, 0, 1, 0, 0, 0, 1, 0), SHARES)
+        low = ("leaf", vector(0, 0, 1, 0, 0, 1, 0, 1), SHARES)
+        self.assertIs(is_paper_by(CLIP, REGION, CLAUSE, zero, (False, False)), True)
+        other = ("unit", 0, TRUE_FALSE, zero)
+        # With unit 1 at True the value of unit 0 is not below 0.
+        first = ("unit", 0, BOTH_TRUE, ("leaf", vector(0, 0, 0, 0, 1, 0, 0, 1), vector(0)))
+        self.assertIs(is_paper_by(CLIP, REGION, CLAUSE, first, (None, True)), True)
+        self.assert_case(True, ("unit", 1, first, other))
+        self.assert_case(False, ("unit", 1, other, first))
+        for wrong in (none, low):
+            self.assert_case(False, ("unit", 1, first, ("unit", 0, TRUE_FALSE, wrong)))
+
     def test_a_leaf_alone(self):
         # Without cases p <= 2/3 (x + 1) alone is known, so the output may be 4/3 at 1.
         self.assert_case(False, AT_TRUE)
@@ -67,6 +82,9 @@ class CaseTest(unittest.TestCase):
         self.assert_case(False, ("unit", 0, ("unit", 0, AT_TRUE, AT_TRUE), AT_FALSE))
         self.assert_case(False, ("unit", 0, AT_TRUE, ("unit", 0, AT_FALSE, AT_FALSE)))
         self.assert_case(False, ("unit", 1, ("unit", 1, AT_TRUE, AT_TRUE), AT_FALSE))
+        # Each leaf is right where it stands, but the unit was asked before.
+        self.assert_case(False, ("unit", 0, ("unit", 0, AT_TRUE, AT_FALSE), AT_FALSE))
+        self.assert_case(False, ("unit", 0, AT_TRUE, ("unit", 0, AT_TRUE, AT_FALSE)))
 
     def test_units_that_there_are_not(self):
         for k in [2, -1, -2, 3, 10**30, True, False, None, "0", 0.0, (0,), [0], (0, 1)]:

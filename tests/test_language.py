@@ -155,9 +155,10 @@ class LanguageTest(unittest.TestCase):
     def test_attributes(self):
         barred = set("""items keys values pop update append clear extend insert remove reverse setdefault sort args
             encode decode hex fromhex format""".split())
+        classes = [node for _, node in self.nodes if isinstance(node, ast.ClassDef)]
+        methods = {part.name for node in classes for part in node.body if isinstance(part, ast.FunctionDef)}
         for name, node in self.nodes:
             if isinstance(node, ast.ClassDef):
-                methods = {part.name for part in node.body if isinstance(part, ast.FunctionDef)}
                 stored = {part.attr for part in ast.walk(node)
                           if isinstance(part, ast.Attribute) and isinstance(part.ctx, ast.Store)}
                 self.assertFalse(stored & barred, (name, node.name))

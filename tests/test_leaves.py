@@ -193,6 +193,14 @@ class RightTest(unittest.TestCase):
         self.assert_right(False, (None,), tuple([(2 * a, b) for a, b in right]), vector(2))
         self.assert_right(False, (None,), vector(*[0] * 5), vector(0))
 
+    def test_shares_between_0_and_1(self):
+        # The vectors agree and the limit is below 0, but the shares are neither 0 nor 1 together.
+        clause = (bound([0], 5), bound([0], 5))
+        for share, right in [(0, True), (Fraction(1, 2), False), (Fraction(1, 4), False), (2, False), (1, True)]:
+            self.assert_right(right, (True,), self.NONE[0], vector(share, 0), region=self.SHORT, clause=clause)
+        for one, other, right in [(Fraction(1, 2), Fraction(1, 2), True), (Fraction(1, 2), Fraction(1, 3), False)]:
+            self.assert_right(right, (True,), self.NONE[0], vector(one, other), region=self.SHORT, clause=clause)
+
     def test_shares_of_several_goals(self):
         # The output is at most 1 or at least 1: half of both says 0 <= 0.
         clause = (bound([1], 1), bound([-1], -1))

@@ -4,10 +4,11 @@ import copy
 import unittest
 from fractions import Fraction
 
-from helpers import STRANGE, Draw, bound, holds_by, lies_in, outputs_by, ratio, sums, vector
+from helpers import STRANGE, Draw, bound, holds_by, lies_in, mixed_up, outputs_by, ratio, sums, vector
 from kinkmeasure.claims import first_place, within
 from kinkmeasure.errors import BadClaim, BadNetwork, BadRegion
 from kinkmeasure.flatten import flatten
+from kinkmeasure.joining import difference
 from kinkmeasure.judge import judge
 from kinkmeasure.networks import out_size
 from kinkmeasure.search import decide
@@ -143,16 +144,16 @@ class DecideTest(unittest.TestCase):
                     self.assert_decided(None, network, region, claim)
 
     def test_networks_that_cancel_out(self):
-        # The outputs of both halves are equal, but a bound for each unit alone does not tell.
+        # The outputs of both halves are equal, but that is known piece by piece alone.
         draw = Draw(153)
-        for widths in ([5], [3, 3]):
-            size, layers = draw.deep(2, widths)
-            last = layers[-1]
-            twice = ("sums", (last[1][0], tuple((-a, b) for a, b in last[1][0])), last[2] + vector(*[-Fraction(*b) for b in last[2]]))
-            network = (2, layers[:-1] + (twice, sums([[1, 1]], [0])))
-            region = (vector(-2, -2), vector(2, 2), ())
-            self.assert_decided("holds", network, region, ((bound([1], 0),), (bound([-1], 0),)))
-            self.assert_decided("breaks", network, region, ((bound([1], -SMALL),),))
+        for size, widths in [(1, [5]), (2, [3]), (1, [3, 2]), (2, [2, 2]), (2, [2, 2, 2])]:
+            for _ in range(3):
+                one = draw.deep(size, widths)
+                network = difference(one, mixed_up(one, draw))
+                region = (vector(*[-2] * size), vector(*[2] * size), ())
+                self.assert_decided("holds", network, region, ((bound([1], 0),), (bound([-1], 0),)))
+                self.assert_decided("breaks", network, region, ((bound([1], -SMALL),),))
+                self.assert_decided("holds", network, region, ((bound([1], SMALL),), (bound([-1], 5), bound([1], 0))))
 
     def test_saw(self):
         # Each layer folds the one before; the greatest value 1 is reached at many points.

@@ -267,6 +267,17 @@ class ShortenTest(unittest.TestCase):
     def test_no_units(self):
         network = (1, (sums([[1]], [0]),))
         self.assertEqual(shorten(network, (vector(0), vector(1), ())), (network, ()))
+        for value in STRANGE:
+            with self.assertRaises(BadRegion):
+                shorten(network, value)
+            with self.assertRaises(BadRegion):
+                judge_steps(network, value, ())
+
+    def test_same_values_in_two_layers(self):
+        # The input itself goes by the first bend, and is bent by the second one again.
+        network = (1, (sums([[1], [1]], [0, 0]), ("bends", (True, False)), sums([[1, 0], [0, 1]], [-1, 0]),
+                       ("bends", (True, True)), sums([[1, 1]], [0])))
+        self.assertEqual(self.assert_shortened(network, (vector(-2), vector(2), ()), []), network)
 
     def test_drawn(self):
         draw = Draw(191)
