@@ -7,7 +7,7 @@ from kinkmeasure.vectors import is_vector
 
 
 def solved(size, rows, hints):
-    """Do what `solve` does for rows that surely are a system."""
+    """Do what `solve` does for rows that surely are a system, from where those at the hints meet on."""
     table = Table(size, rows)
     table.settle_at(hints)
     lacking = table.find_place()
@@ -17,7 +17,7 @@ def solved(size, rows, hints):
 
 
 def topped(size, rows, vector, hints):
-    """Do what `greatest` does for rows and a vector that surely fit."""
+    """Do what `greatest` does for rows and a vector that surely fit, from where those at the hints meet on."""
     table = Table(size, rows)
     table.take_aim(vector)
     table.settle_at(hints)

@@ -8,7 +8,7 @@ from unittest import mock
 from helpers import STRANGE, Draw, bound, fraction, fractions, ratio, vector
 from kinkmeasure import tables
 from kinkmeasure.errors import BadSystem
-from kinkmeasure.simplex import greatest, solve
+from kinkmeasure.simplex import greatest, solve, solved, topped
 
 
 def product(one, other):
@@ -57,10 +57,10 @@ class Checks(unittest.TestCase):
             self.assert_none(size, rows, answer[1])
         return answer
 
-    def assert_greatest(self, size, rows, form):
+    def assert_greatest(self, size, rows, form, hints=None):
         """The answer is right; its own parts show it. Return it."""
         kept = copy.deepcopy((rows, form))
-        answer = greatest(size, rows, form)
+        answer = greatest(size, rows, form) if hints is None else topped(size, rows, form, hints)
         self.assertEqual((rows, form), kept)
         if answer[0] == "none":
             self.assertEqual(len(answer), 2)
@@ -182,6 +182,25 @@ class DrawnTest(Checks):
     def test_drawn_with_care_only(self):
         with mock.patch.object(tables, "PATIENCE", -1):
             self.assert_drawn(61, 1000)
+
+    def test_drawn_with_factors_taken_out_at_once(self):
+        with mock.patch.object(tables, "SHORT", 0):
+            self.assert_drawn(64, 1000)
+
+    def test_any_start(self):
+        # Where the search begins does not matter for what it finds.
+        draw = Draw(65)
+        for _ in range(800):
+            size = draw.integer(0, 5)
+            rows = draw.system(size, draw.integer(1, 9))
+            form = draw.vector(size)
+            hints = [draw.integer(0, len(rows) - 1) for _ in rows] if rows else []
+            first = self.assert_greatest(size, rows, form)
+            other = self.assert_greatest(size, rows, form, hints)
+            self.assertEqual(first[0], other[0])
+            if first[0] == "greatest":
+                self.assertEqual(product(form, first[1]), product(form, other[1]))
+            self.assertEqual(solved(size, rows, hints)[0] == "none", first[0] == "none")
 
     def test_boxes(self):
         draw = Draw(62)
