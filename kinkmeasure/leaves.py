@@ -69,16 +69,29 @@ def highest(value, low, high):
     return scaled(divide(high, subtract(high, low)), raised(value, negative(low)))
 
 
-def unit_bounds(phase, given, value, low, high):
-    """Return the three bounds of a unit, of the forms of what it gives and of its value."""
+def unit_pairs(phase, given, value, low, high):
+    """Return the pairs of forms of which one is at most the other one, for the three bounds of a unit."""
     nothing = zero(len(value))
     if phase is None:
-        pairs = ((nothing, given), (value, given), (given, highest(value, low, high)))
-    elif phase:
-        pairs = ((given, value), (value, given), (nothing, value))
-    else:
-        pairs = ((given, nothing), (nothing, given), (value, nothing))
-    return [bound_between(one, other) for one, other in pairs]
+        return ((nothing, given), (value, given), (given, highest(value, low, high)))
+    if phase:
+        return ((given, value), (value, given), (nothing, value))
+    return ((given, nothing), (nothing, given), (value, nothing))
+
+
+def unit_bounds(phase, given, value, low, high):
+    """Return the three bounds of a unit, of the forms of what it gives and of its value."""
+    return [bound_between(one, other) for one, other in unit_pairs(phase, given, value, low, high)]
+
+
+def bound_place(phase, low, high, positive):
+    """Return which of the three bounds of a unit tells what its variable is at most, or else at least."""
+    if phase is not None:
+        return 0 if positive else 1
+    if positive:
+        return 2
+    # Of the two that a unit left open is at least, its value is the better one if it is mostly positive.
+    return 1 if low[0] >= 0 or less(negative(low), high) else 0
 
 
 def widened_rows(region, more):
@@ -133,7 +146,10 @@ def are_right(size, rows, goals, multipliers, shares):
 
 
 class Ground:
-    """A plain network on a region, with the forms of its units and of its outputs."""
+    """A plain network on a region, with the forms of its units and of its outputs.
+
+    Several clauses often ask for the same phases one behind the other, so the last ones are kept.
+    """
 
     def __init__(self, network, region):
         self.network = network
@@ -141,14 +157,30 @@ class Ground:
         self.size = network[0]
         self.count = units(network)
         self.unit_forms, self.out_forms = forms_of(network, self.count)
+        self.phases = None
+        self.ranges = ()
+        self.rows = None
+
+    def take(self, phases):
+        """Work out the ranges for phases, if they are not the last ones."""
+        if phases != self.phases:
+            # The last layer gives the outputs, and no unit is behind it.
+            ahead = (self.size, self.network[1][:-1])
+            self.phases = phases
+            self.ranges = all_ranges(ahead, self.region, phases)[0]
+            self.rows = None
 
     def ranges_for(self, phases):
         """Return the ranges of the units' values for phases."""
-        return all_ranges(self.network, self.region, phases)[0]
+        self.take(phases)
+        return self.ranges
 
     def leaf_rows(self, phases):
         """Return the bounds of a leaf."""
-        return rows_with(self.unit_forms, self.region, phases, self.ranges_for(phases))
+        self.take(phases)
+        if self.rows is None:
+            self.rows = rows_with(self.unit_forms, self.region, phases, self.ranges)
+        return self.rows
 
 
 def is_leaf_right(network, region, phases, clause, multipliers, shares):

@@ -3,11 +3,12 @@
 from kinkmeasure.claims import check_claim, clause_holds
 from kinkmeasure.flatten import flatten
 from kinkmeasure.judge import with_phase
-from kinkmeasure.leaves import Ground, goals_with, narrowed, rows_with, unit_bounds, widened_rows
+from kinkmeasure.leaves import Ground, bound_between, bound_place, goals_with, narrowed, unit_bounds, unit_pairs
+from kinkmeasure.leaves import widened_rows
 from kinkmeasure.networks import followed, out_size
 from kinkmeasure.pieces import unit_values
-from kinkmeasure.ratios import ONE, ZERO, absolute, add, greatest, less, negative, subtract
-from kinkmeasure.regions import check_region
+from kinkmeasure.ratios import ONE, ZERO, absolute, add, at_most, greatest, less, multiply, negative, subtract
+from kinkmeasure.regions import check_region, keeps
 from kinkmeasure.simplex import solved, topped
 from kinkmeasure.systems import summed
 from kinkmeasure.vectors import dot, mixed, opposite, scaled, subtracted, unit, zero
@@ -27,6 +28,78 @@ def value_at(form, point):
     return add(form[0], dot(form[1:], point))
 
 
+class Sketch:
+    """What the ranges alone show for phases, without a linear system.
+
+    A goal is led back to the inputs: each unit is replaced by one of its bounds, the last one first.
+    """
+
+    def __init__(self, ground, phases, ranges):
+        self.ground = ground
+        self.phases = phases
+        self.ranges = ranges
+        self.first = 2 * ground.size + len(ground.region[2])
+        self.many = self.first + 3 * ground.count
+
+    def nowhere(self, goals):
+        """Return the leaf that shows that there is no point if a low is greater than its high, or None."""
+        lows, highs, _ = self.ground.region
+        for index in range(self.ground.size):
+            if less(highs[index], lows[index]):
+                pair = zero(2 * index) + (ONE, ONE) + zero(self.many - 2 * index - 2)
+                return ("leaf", pair, zero(len(goals)))
+        return None
+
+    def put_for_units(self, vector, multipliers):
+        """Replace the units in a vector; return the inputs' items, and the limits of the bounds in all."""
+        size = self.ground.size
+        left = vector
+        limit = ZERO
+        for index in range(self.ground.count - 1, -1, -1):
+            item = left[size + index]
+            if item == ZERO:
+                continue
+            low, high = self.ranges[index]
+            which = bound_place(self.phases[index], low, high, item[0] > 0)
+            given = unit(1 + len(vector), 1 + size + index)
+            pairs = unit_pairs(self.phases[index], given, self.ground.unit_forms[index], low, high)
+            line, most = bound_between(pairs[which][0], pairs[which][1])
+            multipliers[self.first + 3 * index + which] = absolute(item)
+            left = subtracted(left, scaled(absolute(item), line))
+            limit = add(limit, multiply(absolute(item), most))
+        return left[:size], limit
+
+    def look(self, vector):
+        """Return multipliers, the limit that they show for a vector, and the corner where it may be reached."""
+        lows, highs, _ = self.ground.region
+        multipliers = [ZERO] * self.many
+        items, limit = self.put_for_units(vector, multipliers)
+        corner = []
+        for index, item in enumerate(items):
+            multipliers[2 * index if item[0] > 0 else 2 * index + 1] = absolute(item)
+            corner.append(highs[index] if item[0] > 0 else lows[index])
+            limit = add(limit, multiply(item, corner[-1]))
+        return tuple(multipliers), limit, tuple(corner)
+
+    def answer(self, goals, clause):
+        """Return a right leaf, ("point", point) with a point that breaks the clause, or None."""
+        found = self.nowhere(goals)
+        for place, (vector, most) in enumerate(goals):
+            if found is None:
+                multipliers, limit, corner = self.look(vector)
+                if at_most(limit, most):
+                    found = ("leaf", multipliers, unit(len(goals), place))
+                elif self.is_broken(clause, corner):
+                    found = ("point", corner)
+        return found
+
+    def is_broken(self, clause, corner):
+        """Tell whether a corner lies in the region and breaks the clause."""
+        if not all(keeps(bound, corner) for bound in self.ground.region[2]):
+            return False
+        return not clause_holds(clause, followed(self.ground.network[1], corner)[-1])
+
+
 class Relaxation:
     """The bounds of a leaf over the inputs and those units alone that are really open.
 
@@ -34,10 +107,10 @@ class Relaxation:
     of the leaf that it comes from.
     """
 
-    def __init__(self, ground, phases):
+    def __init__(self, ground, phases, ranges):
         self.ground = ground
         self.phases = phases
-        self.ranges = ground.ranges_for(phases)
+        self.ranges = ranges
         self.fates = tuple([fate_of(phase, low, high) for phase, (low, high) in zip(phases, self.ranges)])
         self.forms, self.parts = narrowed(ground.unit_forms, ground.size, self.fates)
         self.free = [index for index, fate in enumerate(self.fates) if fate is None]
@@ -78,16 +151,15 @@ class Relaxation:
                 most = gap
         return found
 
-    def paired(self, index):
-        """Return the places of the bounds of a settled unit that its variable is at most, and at least."""
-        first = 2 * self.ground.size + len(self.ground.region[2]) + 3 * index
-        if self.phases[index] is not None:
-            return first, first + 1
-        return (first + 2, first + 1) if self.fates[index] else (first + 2, first)
+    def place_for(self, index, positive):
+        """Return the place of the bound that a settled unit's variable is at most, or else at least."""
+        low, high = self.ranges[index]
+        first = 2 * self.ground.size + len(self.ground.region[2])
+        return first + 3 * index + bound_place(self.phases[index], low, high, positive)
 
     def leaf(self, multipliers, goals, shares):
         """Return the leaf with these multipliers, and those that the settled units need for it."""
-        rows = rows_with(self.ground.unit_forms, self.ground.region, self.phases, self.ranges)
+        rows = self.ground.leaf_rows(self.phases)
         every = [ZERO] * len(rows)
         for place, ratio in zip(self.origins, multipliers):
             every[place] = ratio
@@ -98,8 +170,7 @@ class Relaxation:
         for index in range(self.ground.count - 1, -1, -1):
             item = left[self.ground.size + index]
             if item != ZERO:
-                most, least = self.paired(index)
-                place = most if item[0] > 0 else least
+                place = self.place_for(index, item[0] > 0)
                 every[place] = absolute(item)
                 left = subtracted(left, scaled(absolute(item), rows[place][0]))
         return ("leaf", tuple(every), shares)
@@ -186,8 +257,11 @@ class Proof:
         """Search up to a point that breaks the clause, which is returned, or the paper: then None."""
         layers = self.ground.network[1]
         while self.paper is None:
-            relaxation = Relaxation(self.ground, self.phases)
-            found = relaxation.answer(self.goals, self.tight)
+            ranges = self.ground.ranges_for(self.phases)
+            found = Sketch(self.ground, self.phases, ranges).answer(self.goals, self.clause)
+            if found is None:
+                relaxation = Relaxation(self.ground, self.phases, ranges)
+                found = relaxation.answer(self.goals, self.tight)
             if found[0] == "leaf":
                 self.close(found)
                 continue

@@ -106,7 +106,8 @@ def mixed(vector, parts, width):
 
 def combined(vector, matrix):
     """Return the sum of the rows of the matrix, each scaled by its item of the vector."""
-    return mixed(vector, [filled(row) for row in matrix], len(matrix[0]))
+    parts = [([], 1) if item == ZERO else filled(row) for item, row in zip(vector, matrix)]
+    return mixed(vector, parts, len(matrix[0]))
 
 
 def multiplied(one, other):

@@ -146,6 +146,22 @@ class Draw:
         return (size, tuple(layers))
 
 
+    def loop(self, size, kinds=None, most=2):
+        """A loop with a drawn network of these kinds of layers, and drifts that are narrow or none."""
+        network = self.network(size, kinds)
+        wide = len(outputs_by(network, vector(*[0] * size)))
+        own = tuple(self.vector(size, most, 3) for _ in range(size))
+        pull = tuple(self.vector(wide, most, 3) for _ in range(size))
+        lows = self.vector(size, 1, 4)
+        highs = tuple((a + self.integer(0, 1) * b, b) for (a, b) in lows)
+        return (network, own, pull, lows, highs)
+
+    def drift(self, loop):
+        """A drift of a loop, often on an edge."""
+        return tuple(ratio(fraction(low) + (fraction(high) - fraction(low)) * Fraction(self.integer(0, 2), 2))
+                     for low, high in zip(loop[3], loop[4]))
+
+
 def given_by(layer, taken):
     """How many numbers a layer gives that takes so many."""
     if layer[0] == "bends":
@@ -252,6 +268,31 @@ def lies_in(region, point):
 def holds_by(claim, outputs):
     """Whether a claim holds for outputs, by Python's own fractions."""
     return all(any(keeps_by([row], outputs) for row in clause) for clause in claim)
+
+
+def led_by(loop, state):
+    """Where a loop leads a state without a drift, by Python's own fractions."""
+    network, own, pull, _, _ = loop
+    outputs = outputs_by(network, state)
+    return [sum((w * x for w, x in zip(fractions(row), fractions(state))), Fraction(0))
+            + sum((w * x for w, x in zip(fractions(more), fractions(outputs))), Fraction(0))
+            for row, more in zip(own, pull)]
+
+
+def stepped_by(loop, state, drift):
+    """The state behind a state and a drift, by Python's own fractions."""
+    return vector(*[x + d for x, d in zip(led_by(loop, state), fractions(drift))])
+
+
+def follows(loop, state, later):
+    """Whether a state may follow another one, by Python's own fractions."""
+    lows, highs = fractions(loop[3]), fractions(loop[4])
+    return all(low <= y - x <= high for low, high, x, y in zip(lows, highs, led_by(loop, state), fractions(later)))
+
+
+def are_run(loop, states):
+    """Whether states are a run, by Python's own fractions."""
+    return len(states) > 0 and all(follows(loop, one, other) for one, other in zip(states, states[1:]))
 
 
 def shortened(value):

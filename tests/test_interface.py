@@ -42,6 +42,20 @@ FUNCTIONS = {
     "steady": """reach(centre, point) within_radius(region, centre, radius) steady(network, region, centre, claim)
         judge_steady(network, region, centre, claim, answer)""",
     "pieces": "pattern(network, point) piece_rows(network, region, phases) piece_form(network, phases)",
+    "copies": """rounded(ratio, n) copy_of(network, grid, scale) copy_distance(network, grid, scale, region)""",
+    "code": "check_code(code) run_code(code, inputs)",
+    "compiler": """code_of(network, grid, scale, width) place_network(network, grid, scale, place)
+        compile_network(network, grid, scale, width, region)
+        judge_code(network, grid, scale, width, region, code, papers)""",
+    "loops": """check_loop(loop) state_size(loop) is_drift(loop, drift) steered(loop, state) step(loop, state, drift)
+        states_of(loop, state, drifts) is_run(loop, states) step_network(loop) unrolled(loop, count)
+        with_drifts(loop, region, count) parted(loop, point) swapped(loop, network) widened(loop, gap)""",
+    "keeping": """region_claim(region) lands(loop, region, count, target) kept(loop, region)
+        stays(loop, start, safe, count) warrant(loop, start, safe, held, count)
+        judge_lands(loop, region, count, target, papers) judge_kept(loop, region, papers)
+        judge_stays(loop, start, safe, count, papers) judge_warrant(loop, start, safe, shown)""",
+    "reaching": """reaches(loop, start, goal, held, vector, fall) judge_reaches(loop, start, goal, shown)
+        most_steps(loop, start, held, vector, fall)""",
 }
 CLASSES = {
     "KinkError": None, "ByZero": "", "BadRatio": "", "BadPoint": "", "BadJoin": "", "BadNetwork": "layer, reason",
@@ -74,6 +88,13 @@ class InterfaceTest(unittest.TestCase):
                 self.assertEqual(str(inspect.signature(error)), f"({arguments})", name)
             elif arguments == "":
                 error()
+
+    def test_code(self):
+        module = importlib.import_module("kinkmeasure.code")
+        self.assertTrue(inspect.isclass(module.Code))
+        self.assertEqual(module.Code.__module__, module.__name__)
+        self.assertEqual(str(inspect.signature(module.Code)), "(width, inputs, registers, instructions)")
+        self.assertIn("__init__", vars(module.Code))
 
 
 if __name__ == "__main__":
