@@ -121,19 +121,24 @@ def is_run(loop, states):
     return all([is_between(loop, subtracted(later, led(loop, state))) for state, later in pairs])
 
 
-def one_step(loop):
-    """Return the plain network that takes a state and a drift and gives the next state."""
-    network, own, pull, _, _ = loop
-    size = network[0]
-    still = affine(identity(size), zero(size))
-    both = behind(beside(still, network), affine(side_by_side(own, pull), zero(size)))
-    line = identity(size)
-    return behind(along(both, still), affine(side_by_side(line, line), zero(size)))
-
-
 def side_by_side(one, other):
     """Return the matrix whose rows are those of one and those of the other one behind them."""
     return tuple([row + more for row, more in zip(one, other)])
+
+
+def steering(loop):
+    """Return the plain network that takes a state and gives where the loop leads it without a drift."""
+    network, own, pull, _, _ = loop
+    size = network[0]
+    still = affine(identity(size), zero(size))
+    return behind(beside(still, network), affine(side_by_side(own, pull), zero(size)))
+
+
+def one_step(loop):
+    """Return the plain network that takes a state and a drift and gives the next state."""
+    line = identity(loop[0][0])
+    nothing = zero(len(line))
+    return behind(along(steering(loop), affine(line, nothing)), affine(side_by_side(line, line), nothing))
 
 
 def rolled(loop, count):

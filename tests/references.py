@@ -1,6 +1,7 @@
-"""Points 403 to 407 and 500, worked out a second time by Python's own fractions."""
+"""Points 403 to 407, 500, 1100 and 1101, worked out a second time by Python's own fractions."""
 
 from fractions import Fraction
+from itertools import combinations, product
 
 from helpers import bound, fraction, fractions, ratio
 
@@ -165,3 +166,85 @@ def is_paper_by(network, region, clause, paper, phases=None):
         return False
     return (is_paper_by(network, region, clause, paper[2], phases[:k] + (True,) + phases[k + 1:])
             and is_paper_by(network, region, clause, paper[3], phases[:k] + (False,) + phases[k + 1:]))
+
+
+def tightened(rows):
+    """Bounds with one for each direction, as a dict of limits, or None if one holds nowhere."""
+    found = {}
+    for line, limit in rows:
+        lead = next((abs(x) for x in line if x), None)
+        if lead is None:
+            if limit < 0:
+                return None
+            continue
+        key = tuple(x / lead for x in line)
+        found[key] = min(found.get(key, limit / lead), limit / lead)
+    return found
+
+
+def facet_volume(size, rows):
+    """The volume of a bounded set, led back to the volumes of its facets; rows of fractions."""
+    limits = tightened(rows)
+    if limits is None:
+        return Fraction(0)
+    if size == 1:
+        high = min(limit for (x,), limit in limits.items() if x > 0)
+        low = max(-limit for (x,), limit in limits.items() if x < 0)
+        return max(high - low, Fraction(0))
+    found = Fraction(0)
+    for line, limit in limits.items():
+        if limit == 0:
+            continue
+        at = next(place for place, x in enumerate(line) if x)
+        others = []
+        for other, most in limits.items():
+            if other != line:
+                share = other[at] / line[at]
+                put_in = [x - share * y for x, y in zip(other, line)]
+                others.append((put_in[:at] + put_in[at + 1:], most - share * limit))
+        found += limit / abs(line[at]) * facet_volume(size - 1, others)
+    return found / size
+
+
+def volume_by(size, rows):
+    """The volume of the bounded set of the points that keep all bounds."""
+    return facet_volume(size, [(fractions(line), fraction(limit)) for line, limit in rows])
+
+
+def measure_by(network, region, claim):
+    """Both numbers of point 1101 for a plain network, over all phases and all sets of clauses."""
+    values, outputs = forms_by(network)
+    size = network[0]
+    base = [(fractions(line), fraction(limit)) for line, limit in region[2]]
+    for index, (low, high) in enumerate(zip(fractions(region[0]), fractions(region[1]))):
+        line = [Fraction(int(place == index)) for place in range(size)]
+        base += [(line, high), ([-x for x in line], -low)]
+    broken = Fraction(0)
+    for phases in product((True, False), repeat=len(values)):
+        forms = []
+        rows = list(base)
+
+        def over_inputs(form):
+            found = form[:size] + [form[-1]]
+            for share, put_in in zip(form[size:-1], forms):
+                found = [x + share * y for x, y in zip(found, put_in)]
+            return found
+
+        for phase, value in zip(phases, values):
+            form = over_inputs(value)
+            # A value that is 0 all over has both phases, but counts once.
+            here = form if phase or any(form) else [Fraction(0)] * size + [Fraction(1)]
+            rows.append(([-x for x in here[:-1]], here[-1]) if phase else (here[:-1], -here[-1]))
+            forms.append(form if phase else [Fraction(0)] * (size + 1))
+        ends = [over_inputs(form) for form in outputs]
+        for many in range(1, len(claim) + 1):
+            for clauses in combinations(claim, many):
+                missed = []
+                for line, limit in [row for clause in clauses for row in clause]:
+                    form = [sum((w * end[place] for w, end in zip(fractions(line), ends)), Fraction(0))
+                            for place in range(size + 1)]
+                    # A form that is just the limit all over keeps the bound.
+                    over = form[-1] - fraction(limit) if any(form[:-1]) or form[-1] != fraction(limit) else Fraction(-1)
+                    missed.append(([-x for x in form[:-1]], over))
+                broken += (-1) ** (many + 1) * facet_volume(size, rows + missed)
+    return facet_volume(size, base), broken

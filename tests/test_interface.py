@@ -54,6 +54,13 @@ FUNCTIONS = {
         stays(loop, start, safe, count) warrant(loop, start, safe, held, count)
         judge_lands(loop, region, count, target, papers) judge_kept(loop, region, papers)
         judge_stays(loop, start, safe, count, papers) judge_warrant(loop, start, safe, shown)""",
+    "seeking": "least_box(loop, region) next_box(loop, region) seek(loop, start, safe, *, turns)",
+    "papertexts": "rows_of(paper) text_of(paper) parse(written)",
+    "jobs": "run_job(written)",
+    "volumes": "volume(size, rows)",
+    "measures": "measure(network, region, claim)",
+    "repair": """repair(network, region, claim) judge_repair(network, region, claim, answer)
+        changed(network, change) change_rows(network, claim, points) cost_vector(network)""",
     "reaching": """reaches(loop, start, goal, held, vector, fall) judge_reaches(loop, start, goal, shown)
         most_steps(loop, start, held, vector, fall)""",
 }
