@@ -58,21 +58,32 @@ def room_form(bound, forms):
     return whole_form(raised(opposite(combined(bound[0], forms)), bound[1]))
 
 
+def sorted_out(cell, rooms):
+    """Return the parts of a cell that keep one of the bounds, and the part that keeps none, or None."""
+    keeping = []
+    rest = cell
+    for room in rooms:
+        if rest is not None:
+            above, rest = halves(rest, room)
+            if above is not None:
+                keeping.append(above)
+    return keeping, rest
+
+
 def broken_parts(cell, forms, claim):
     """Return cells that make up the part of a cell at which a claim breaks."""
     found = []
-    kept = [cell]
+    left = [cell]
     for clause in claim:
-        passed = []
-        for part in kept:
-            for bound in clause:
-                if part is not None:
-                    holding, part = halves(part, room_form(bound, forms))
-                    if holding is not None:
-                        passed.append(holding)
-            if part is not None:
-                found.append(part)
-        kept = passed
+        rooms = [room_form(bound, forms) for bound in clause]
+        keeping = []
+        for part in left:
+            # What breaks a clause is counted at once, so later clauses are asked for the rest alone.
+            more, rest = sorted_out(part, rooms)
+            keeping.extend(more)
+            if rest is not None:
+                found.append(rest)
+        left = keeping
     return found
 
 

@@ -50,9 +50,10 @@ class Sketch:
                 return ("leaf", pair, zero(len(goals)))
         return None
 
-    def put_for_units(self, vector, multipliers):
-        """Replace the units in a vector; return the inputs' items, and the limits of the bounds in all."""
+    def led_back(self, vector):
+        """Return multipliers of bounds of units that lead a vector back, the inputs' items, and the limit."""
         size = self.ground.size
+        multipliers = [ZERO] * self.many
         left = vector
         limit = ZERO
         for index in range(self.ground.count - 1, -1, -1):
@@ -67,13 +68,12 @@ class Sketch:
             multipliers[self.first + 3 * index + which] = absolute(item)
             left = subtracted(left, scaled(absolute(item), line))
             limit = add(limit, multiply(absolute(item), most))
-        return left[:size], limit
+        return multipliers, left[:size], limit
 
     def look(self, vector):
         """Return multipliers, the limit that they show for a vector, and the corner where it may be reached."""
         lows, highs, _ = self.ground.region
-        multipliers = [ZERO] * self.many
-        items, limit = self.put_for_units(vector, multipliers)
+        multipliers, items, limit = self.led_back(vector)
         corner = []
         for index, item in enumerate(items):
             multipliers[2 * index if item[0] > 0 else 2 * index + 1] = absolute(item)

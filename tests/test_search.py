@@ -155,6 +155,18 @@ class DecideTest(unittest.TestCase):
                 self.assert_decided("breaks", network, region, ((bound([1], -SMALL),),))
                 self.assert_decided("holds", network, region, ((bound([1], SMALL),), (bound([-1], 5), bound([1], 0))))
 
+    def test_many_inputs(self):
+        # The ranges alone decide these claims, so that even many inputs take no time.
+        many = 300
+        rows = [[(-1) ** (k + j) * (j % 5) for k in range(many)] for j in range(3)]
+        network = (many, (sums(rows, [0, 1, 2]), ("bends", (True, True, True)), sums([[1, -1, 2]], [0])))
+        region = (vector(*[-1] * many), vector(*[1] * many), ())
+        self.assert_decided("holds", network, region, ((bound([1], 2 * 2 * many + 4),), (bound([-1], many + 1),)))
+        self.assert_decided("breaks", network, region, ((bound([1], many),),))
+        self.assert_decided("holds", network, (region[1], region[0], ()), ((), (bound([1], -1),)))
+        cut = region[:2] + ((bound([1] + [0] * (many - 1), 0),),)
+        self.assert_decided("holds", network, cut, ((bound([1], 2 * 2 * many + 4),),))
+
     def test_saw(self):
         # Each layer folds the one before; the greatest value 1 is reached at many points.
         network = saw(5)
