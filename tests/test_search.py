@@ -157,7 +157,7 @@ class DecideTest(unittest.TestCase):
 
     def test_many_inputs(self):
         # The ranges alone decide these claims, so that even many inputs take no time.
-        many = 300
+        many = 100
         rows = [[(-1) ** (k + j) * (j % 5) for k in range(many)] for j in range(3)]
         network = (many, (sums(rows, [0, 1, 2]), ("bends", (True, True, True)), sums([[1, -1, 2]], [0])))
         region = (vector(*[-1] * many), vector(*[1] * many), ())
